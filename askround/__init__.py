@@ -1,0 +1,1 @@
+"""Askround: forms of questions, asked and made into tables."""

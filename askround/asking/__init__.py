@@ -1,0 +1,1 @@
+"""Ways to ask a form."""

@@ -1,0 +1,1 @@
+"""Entries, and what a book of them says of a form."""

@@ -1,0 +1,1 @@
+"""Forms as trees of steps and as texts."""

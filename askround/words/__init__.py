@@ -1,0 +1,1 @@
+"""Names, kinds, values and conditions."""
