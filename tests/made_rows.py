@@ -11,6 +11,7 @@ class Rows:
         self.ends = {}
         self.add_steps(form, 0, "")
         self.rows.append(("end",))
+        self.rows = [tuple(row) for row in self.rows]
 
     def keyed(self, condition, person):
         word = condition[0]
@@ -46,10 +47,11 @@ class Rows:
     def add_if(self, step, person, home):
         at = self.leap("unless", self.keyed(step[1], person))
         self.add_steps(step[2], person, home)
-        over = self.leap("go")
+        over = self.leap("go") if step[3] else None
         self.land(at)
         self.add_steps(step[3], person, home)
-        self.land(over)
+        if over is not None:
+            self.land(over)
 
     def add_part(self, step, person, home):
         before = self.ends.get(step[1])

@@ -143,7 +143,7 @@ class TestLanguage(unittest.TestCase):
                 self.assertNotIn(name, BARRED, path)
                 self.assertIsNone(BARRED_NAMES.match(name), path)
                 self.assertFalse(name.startswith(BARRED_STARTS), path)
-                self.assertTrue(name in ("__init__", "_") or not name.startswith("__"), path)
+                self.assertTrue(name in ("__init__", "__eq__", "__len__", "_") or not name.startswith("__"), path)
             locals_bound = {n.arg for n in ast.walk(tree) if isinstance(n, ast.arg)}
             locals_bound |= {n.id for n in ast.walk(tree) if isinstance(n, ast.Name) and isinstance(n.ctx, ast.Store)}
             self.assertEqual(locals_bound & (imported | classes), set(), path)
@@ -200,11 +200,32 @@ INTERFACE = {
     "forms/trees.py": "is_form(thing) asks_of(form) keys_of(form) kind_of(form,key)",
     "forms/texts.py": "form_text(form) read_form(text)",
     "asking/plain.py": "read(form,answers,lets=None,all_let=False)",
+    "asking/made.py": "made(form) run(rows,answers,lets=None,all_let=False)",
+    "asking/classes.py": "classes_of(form,key) class_of(form,key,value) width_of(form)",
+    "asking/states.py": "live_at(form,row) first_state(form) behind(form,state,number) table_of(form) is_table(form,thing) is_shut(form,key,thing)",
+    "asking/comes.py": "come_to(form,key) shows_come(form,key,thing)",
+    "asking/pairs.py": "two_forms(one,other) shows_two(one,other,thing)",
+    "asking/hangs.py": "hangs_on(form,key) hang_pair(form,key,other) shows_hang(form,key,other,thing)",
+    "desk/texts.py": "book_text(book) read_book(text)",
     "book/entries.py": "is_book(thing) joined(one,other) answers_by(form,book) lets_by(form,book) read_by(form,book)",
 }
 
 
+CLASSES = {
+    "asking/askers.py": ("Asker", "__init__(self,form) tell(self,value) let(self) back(self) now(self) taken(self) lets(self) __eq__(self,other) __len__(self)"),
+}
+
+
 class TestInterface(unittest.TestCase):
+    def test_each_method_is_defined_in_its_class_with_its_arguments(self):
+        for name, (word, listed) in CLASSES.items():
+            tree = ast.parse((PACKAGE / name).read_text())
+            body = [node.body for node in tree.body if isinstance(node, ast.ClassDef) and node.name == word][0]
+            made = {node.name: ast.unparse(node.args).replace(" ", "") for node in body if isinstance(node, ast.FunctionDef)}
+            for call in listed.split():
+                method, _, rest = call.partition("(")
+                self.assertEqual(made.get(method), rest[:-1], call)
+
     def test_each_function_is_defined_in_its_file_with_its_arguments(self):
         for name, listed in INTERFACE.items():
             tree = ast.parse((PACKAGE / name).read_text())

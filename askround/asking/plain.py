@@ -9,14 +9,13 @@ from askround.words.kinds import is_value
 def read(form, answers, lets=None, all_let=False):
     """What a form is read to by answers and lets: the keys taken, the checks let, and what comes then."""
     check_form(form)
-    reading = Reading(form, answers, () if lets is None else lets, all_let)
+    reading = Reading(form, answers, lets, all_let)
     reading.go(form, 0, 0)
     return tuple(reading.got), tuple(reading.passed), reading.last or ("end",)
 
 
-def answers_in(form, answers):
-    """The answers that count: those of keys of the form with values of their kinds."""
-    kinds = kinds_of(form)
+def answers_in(kinds, answers):
+    """The answers that count: those of these keys with values of their kinds."""
     # is_key goes first: to Python a truth as person would be the key with 0 or 1.
     return {
         key: value for key, value in answers.items()
@@ -24,19 +23,23 @@ def answers_in(form, answers):
     }
 
 
-def checks_in(step):
-    """How many checks a step is or has in it."""
-    rows = rows_of((step,))
-    return len([inner for inner, _ in rows if inner[0] in ("hard", "soft")])
+def lets_in(lets):
+    """A dict from the lets that could be of checks to True."""
+    # is_check goes first, as truths would be numbers to Python here, too.
+    return {check: True for check in lets or () if is_check(check)}
+
+
+def checks_in(steps):
+    """How many checks steps are or have in them."""
+    return len([step for step, _ in rows_of(steps) if step[0] in ("hard", "soft")])
 
 
 class Reading:
     """A reading as far as it has come."""
 
     def __init__(self, form, answers, lets, all_let):
-        self.given = answers_in(form, answers)
-        # is_check goes first, as truths would be numbers to Python here, too.
-        self.allowed = {check: True for check in lets if is_check(check)}
+        self.given = answers_in(kinds_of(form), answers)
+        self.allowed = lets_in(lets)
         self.lenient = all_let
         self.questions = questions_of(form)
         self.got = {}
@@ -50,7 +53,7 @@ class Reading:
             self.come(step, person, number)
             if self.stopped():
                 return
-            number = number + checks_in(step)
+            number = number + checks_in((step,))
 
     def stopped(self):
         """Whether the step behind isn't come to."""
@@ -87,7 +90,7 @@ class Reading:
         if self.says(step[1], person):
             self.go(first, person, number)
         else:
-            self.go(second, person, number + sum([checks_in(inner) for inner in first]))
+            self.go(second, person, number + checks_in(first))
 
     def go_round(self, step, number):
         """Go through the steps of a round for each one of its folk."""

@@ -2,7 +2,7 @@
 
 from askround.asking.plain import read
 from askround.errors import Clash, Full, NoBook
-from askround.forms.trees import check_form, kinds_of, questions_of, rows_of
+from askround.forms.trees import check_form, homes_of, kinds_of, persons_of, questions_of, rows_of
 from askround.words.conditions import pieces_of
 from askround.words.keys import is_check, is_key
 from askround.words.kinds import MOST_OPTIONS, are_names, is_name, is_number, is_value
@@ -119,7 +119,7 @@ def softs_of(form):
     """A dict from the soft checks of what is known to be a form to the keys that their conditions name."""
     kinds = kinds_of(form)
     questions = questions_of(form)
-    homes = {step[1]: home for step, home in rows_of(form) if step[0] == "ask"}
+    homes = homes_of(form)
     checks = [(step, home) for step, home in rows_of(form) if step[0] in ("hard", "soft")]
     softs = {}
     for number, (step, home) in enumerate(checks):
@@ -127,13 +127,6 @@ def softs_of(form):
             for person in persons_of(home, questions, kinds):
                 softs[(number, person)] = _keys_named(step[1], home, person, homes, kinds)
     return softs
-
-
-def persons_of(home, questions, kinds):
-    """The persons for whom what stands in a round, or in none, can be come to."""
-    if home == "":
-        return [0]
-    return list(range(1, kinds[(questions[home], 0)][2] + 1))
 
 
 def _keys_named(condition, home, person, homes, kinds):

@@ -1,8 +1,8 @@
 """Forms as trees of steps."""
 
-from askround.errors import NoForm, NoKey
+from askround.errors import NoForm
 from askround.forms.growth import Growth
-from askround.words.keys import is_key
+from askround.words.keys import check_key
 
 LENGTHS = {"ask": 3, "if": 4, "part": 3, "leave": 3, "each": 4, "hard": 2, "soft": 2}
 
@@ -87,6 +87,18 @@ def questions_of(form):
     return {step[1]: step[2] for step, _ in rows_of(form) if step[0] == "each"}
 
 
+def homes_of(form):
+    """A dict from the asks of what is known to be a form to their rounds or no name."""
+    return {step[1]: home for step, home in rows_of(form) if step[0] == "ask"}
+
+
+def persons_of(home, questions, kinds):
+    """The persons for whom what stands in a round, or in none, can be come to."""
+    if home == "":
+        return [0]
+    return list(range(1, kinds[(questions[home], 0)][2] + 1))
+
+
 def kinds_of(form):
     """A dict from the keys of what is known to be a form to their kinds, as the made rows ask them."""
     highs = {step[1]: step[2][2] for step, _ in rows_of(form) if step[0] == "ask" and step[2][0] == "count"}
@@ -118,6 +130,5 @@ def kind_of(form, key):
     """The kind of a key of a form."""
     check_form(form)
     kinds = kinds_of(form)
-    if not is_key(key) or key not in kinds:
-        raise NoKey("no key of the form")
+    check_key(kinds, key)
     return kinds[key]

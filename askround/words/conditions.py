@@ -163,11 +163,11 @@ def _piece_holds(piece, taken, person):
     word, name, wanted = piece
     for key in ((name, person), (name, 0)):
         if key in taken:
-            return _fits(word, wanted, taken[key])
+            return fits(word, wanted, taken[key])
     return False
 
 
-def _fits(word, wanted, answer):
+def fits(word, wanted, answer):
     """Whether an answer, perhaps of another kind, is, has or reaches what is wanted."""
     if word == "is":
         return answer == wanted

@@ -1,0 +1,1 @@
+"""Books as texts, and what is said at a desk."""
