@@ -37,3 +37,22 @@ def other_of(chance, thing):
         if word == "kind":
             return list(thing) if type(thing) is tuple else tuple(thing)
     return chance.choice(OTHERS)
+
+
+def broken_layers(layers, first):
+    """What is no two layers, of these two, that show anything; first is the first node with a truth in it."""
+    one, two = layers
+    return [
+        layers[:1], layers[1:], layers + layers[:1], layers[::-1], list(layers), (), None, (one, list(two)), (one, two[1:]), (one, two[:1]), (one, two[::-1]), (one, two * 2), ((), two), (one, ()),
+        (one, None), (None, two), (one[0], two[0]), ((first,), two), ((None,), two), (one, (None, *two)), (list(one), two), {0: one, 1: two},
+    ]
+
+
+def with_node(chance, told, more):
+    """What is told, with a node more in the table or in a layer, whether that shows as much or not."""
+    if len(told) == 2:
+        return (told[0], tuple(sorted({*told[1], more})))
+    if not told[2]:
+        return told
+    at = chance.randrange(len(told[2]))
+    return (*told[:2], (*told[2][:at], tuple(sorted({*told[2][at], more})), *told[2][at + 1:]))

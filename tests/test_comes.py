@@ -8,7 +8,7 @@ from askround.asking.plain import read
 from askround.asking.states import is_shut, table_of
 from askround.errors import NoKey, TooWide
 from askround.forms.trees import keys_of
-from tests.bends import bent
+from tests.bends import bent, broken_layers, with_node
 from tests.oracles import Oracle
 from tests.support import THINGS, alike, answer_truth, refuse, refuse_form
 from tests.test_classes import WIDE, WIDER, wide_form
@@ -166,10 +166,9 @@ class TestShowsCome(unittest.TestCase):
         found = come_to(STEPS, ("d", 0))
         word, answers, layers = found
         self.assertEqual(len(layers), 2)
-        for bent_layers in (layers[:1], layers[1:], layers + layers[:1], layers[::-1], list(layers), (), None, (layers[0], list(layers[1])), (layers[0], layers[1][1:]), (layers[0], layers[1][:-1]),
-                            (layers[0], layers[1][::-1]), (layers[0], layers[1] * 2), ((), layers[1]), (layers[0], ()), (layers[0], None), (None, layers[1]), (layers[0][0], layers[1][0])):
-            self.assert_none(STEPS, "d", (word, answers, bent_layers))
-        self.assert_none(STEPS, "d", (word, answers, (((False, ()),), layers[1])), [word, answers, layers], (word, answers), (word, answers, layers, ()), ("never", layers[0]), ("never", ()))
+        for broken in broken_layers(layers, (False, ())):
+            self.assert_none(STEPS, "d", (word, answers, broken))
+        self.assert_none(STEPS, "d", [word, answers, layers], (word, answers), (word, answers, layers, ()), ("never", layers[0]), ("never", ()))
         self.assert_none(STEPS, "d", ("Answers", answers, layers), ("never", answers, layers), ([], answers, layers), (("answers",), answers, layers), (answers, layers), (None, answers, layers))
 
     def test_never_with_any_shut_table(self):
@@ -208,12 +207,7 @@ def with_more(chance, oracle, told):
     """What is told, with a state more in the table or in a layer, closed or not."""
     at, live = chance.choice(list(oracle.lives.items()))
     more = (at, tuple(chance.randrange(-1, len(oracle.sorts[key])) for key in live))
-    if told[0] == "never":
-        return (told[0], tuple(sorted({*told[1], more})))
-    if not told[2]:
-        return told
-    at = chance.randrange(len(told[2]))
-    return (*told[:2], (*told[2][:at], tuple(sorted({*told[2][at], more})), *told[2][at + 1:]))
+    return with_node(chance, told, more)
 
 
 class TestRefusals(unittest.TestCase):

@@ -161,6 +161,13 @@ class TestLanguage(unittest.TestCase):
                 if isinstance(node, ast.Attribute):
                     self.assertNotIn(node.attr, BARRED, path)
 
+    def test_no_name_is_a_method_and_an_attribute(self):
+        methods = {node.name for _, one in self.each(ast.ClassDef) for node in one.body if isinstance(node, ast.FunctionDef)}
+        stored = {node.attr for _, node in self.each(ast.Attribute) if isinstance(node.ctx, ast.Store)}
+        self.assertEqual(methods & stored, set())
+        of_values = {name for kind in (str, int, list, dict, set, bytes, tuple) for name in dir(kind) if not name.startswith("__")}
+        self.assertEqual((methods | stored) & of_values, set())
+
     def test_underscore_is_never_read(self):
         for place, node in self.each(ast.Name):
             self.assertFalse(node.id == "_" and isinstance(node.ctx, ast.Load), place)

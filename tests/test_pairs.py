@@ -7,7 +7,7 @@ from askround.asking.pairs import shows_two, two_forms
 from askround.asking.plain import read
 from askround.errors import TooWide
 from askround.forms.trees import is_form
-from tests.bends import bent
+from tests.bends import bent, broken_layers, with_node
 from tests.oracles import PairOracle, how_many
 from tests.rewrites import other_form
 from tests.support import THINGS, alike, answer_truth, refuse, refuse_form
@@ -233,6 +233,13 @@ class TestShowsTwo(unittest.TestCase):
                         ((("a", 0), "y"), (("c", 0), "x", 0)), None, "ac", {("a", 0): "y", ("c", 0): "x"}, ((("a", 0), "y"), (["c"], "x")), ((("a", 0), "y"), (("a", 0), "y"))):
             self.assert_none(self.ONE, self.OTHER, ("parted", answers, layers))
 
+    def test_answers_behind_both_ends(self):
+        one, other = form("ask a pick x y"), form("ask a pick x y / if a is y / ask b pick x / end")
+        first = ((0, (), 0, ()),)
+        self.assert_shows(one, other, ("parted", pairs_of("a=y"), (first,)))
+        for text, many in (("a=x b=x", 2), ("a=x c=x", 2), ("a=y b=x", 2), ("a=x b=x c=x", 3)):
+            self.assert_none(one, other, ("parted", pairs_of(text), (first,) * many), ("parted", pairs_of(text), (first, *[()] * (many - 1))))
+
     def test_not_the_fewest(self):
         # By a=x b=.. it takes one answer more.
         one, other = form(AB), form(AB + " / hard ( a is x and a is y )")
@@ -243,9 +250,9 @@ class TestShowsTwo(unittest.TestCase):
     def test_bent_layers(self):
         answers, layers = pairs_of("a=y c=x"), (self.PAIRS[:1], (self.PAIRS[1], self.PAIRS[3]))
         self.assert_shows(self.ONE, self.OTHER, ("parted", answers, layers), ("parted", answers, (layers[0], self.PAIRS[1:])), ("parted", answers, (layers[0], self.PAIRS)))
-        for bent_layers in (layers[:1], layers[1:], layers + layers[:1], layers[::-1], list(layers), (), None, (layers[0], list(layers[1])), (layers[0], layers[1][1:]), (layers[0], layers[1][:1]), ((), layers[1]),
-                            (layers[0], layers[1][::-1]), (layers[0], layers[1] * 2), (layers[0], ()), (layers[0], None), (layers[0] + layers[1], layers[1]), (((False, (), 0, ()),), layers[1])):
-            self.assert_none(self.ONE, self.OTHER, ("parted", answers, bent_layers))
+        for broken in broken_layers(layers, (False, (), 0, ())):
+            self.assert_none(self.ONE, self.OTHER, ("parted", answers, broken))
+        self.assert_none(self.ONE, self.OTHER, ("parted", answers, (layers[0] + layers[1], layers[1])))
         self.assert_none(self.ONE, self.OTHER, ["parted", answers, layers], ("parted", answers), ("parted", layers, answers), ("parted", answers, layers, ()), ("alike", answers, layers), ("never", layers[0]))
 
     def test_of_anything_a_truth_is_told(self):
@@ -283,12 +290,7 @@ def with_more(chance, oracle, told):
     for made in oracle.forms:
         at = made.asked[key]
         more += (at, tuple(marks.get(one, -1) for one in made.lives[at]))
-    if told[0] == "alike":
-        return (told[0], tuple(sorted({*told[1], more})))
-    if not told[2]:
-        return told
-    at = chance.randrange(len(told[2]))
-    return (*told[:2], (*told[2][:at], tuple(sorted({*told[2][at], more})), *told[2][at + 1:]))
+    return with_node(chance, told, more)
 
 
 class TestRefusals(unittest.TestCase):

@@ -45,7 +45,7 @@ def shows_hang(form, key, other, thing):
     if not isinstance(thing, tuple) or len(thing) != 2:
         return False
     answers, value = thing
-    if not _are_whole(walk, answers) or not is_value(walk.sieves[other].kind, value) or value == answers[other]:
+    if not _are_whole(walk, answers) or not is_value(walk.sieves[other].kind, value):
         return False
     turned = {one: value if one == other else answers[one] for one in answers}
     return (key in read(form, answers, None, True)[0]) != (key in read(form, turned, None, True)[0])

@@ -62,9 +62,7 @@ class Pairs:
 
     def could_be(self, thing):
         """Whether a thing is a pair, come to or not."""
-        if not isinstance(thing, tuple) or len(thing) != 4:
-            return False
-        if not self.one.could_be(thing[:2]) or not self.other.could_be(thing[2:]):
+        if not isinstance(thing, tuple) or not self.one.could_be(thing[:2]) or not self.other.could_be(thing[2:]):
             return False
         return self.one.rows[thing[0]] == self.other.rows[thing[2]]
 
