@@ -112,7 +112,9 @@ class TestLanguage(unittest.TestCase):
         for path, tree in self.trees.items():
             needs[path] = set()
             for node in tree.body:
-                if isinstance(node, ast.ImportFrom):
+                if isinstance(node, ast.ImportFrom) and node.module == "math":
+                    self.assertTrue(all(alias.name in ("gcd", "lcm") and alias.asname is None for alias in node.names), path)
+                elif isinstance(node, ast.ImportFrom):
                     self.assertTrue(node.level == 0 and node.module.startswith("askround."), path)
                     source = ROOT / (node.module.replace(".", "/") + ".py")
                     needs[path].add(source)
@@ -166,7 +168,9 @@ class TestLanguage(unittest.TestCase):
         stored = {node.attr for _, node in self.each(ast.Attribute) if isinstance(node.ctx, ast.Store)}
         self.assertEqual(methods & stored, set())
         of_values = {name for kind in (str, int, list, dict, set, bytes, tuple) for name in dir(kind) if not name.startswith("__")}
-        self.assertEqual((methods | stored) & of_values, set())
+        # A method, but no attribute, may have the name of one that only texts have.
+        self.assertEqual((methods | stored) & of_values, {"join"})
+        self.assertNotIn("join", stored)
 
     def test_underscore_is_never_read(self):
         for place, node in self.each(ast.Name):
@@ -213,13 +217,25 @@ INTERFACE = {
     "asking/comes.py": "come_to(form,key) shows_come(form,key,thing)",
     "asking/pairs.py": "two_forms(one,other) shows_two(one,other,thing)",
     "asking/hangs.py": "hangs_on(form,key) hang_pair(form,key,other) shows_hang(form,key,other,thing)",
-    "desk/texts.py": "book_text(book) read_book(text)",
     "book/entries.py": "is_book(thing) joined(one,other) answers_by(form,book) lets_by(form,book) read_by(form,book)",
+    "book/changes.py": "carried(form,book,other,names=None)",
+    "tables/fractions.py": "is_fraction(thing) fraction(p,q)",
+    "tables/records.py": "are_records(form,thing) are_lines(form,thing,over=None)",
+    "tables/sums.py": "cross(form,records,rows,columns,weights=None,over=None) added(one,other)",
+    "tables/weights.py": "weights_for(fits,totals) shows_weights(fits,totals,thing)",
+    "tables/hidden.py": "bounds_at(counts,hidden,place) shows_bounds(counts,hidden,place,thing) given_away(counts,hidden)",
+    "desk/texts.py": "book_text(book) read_book(text)",
 }
 
 
 CLASSES = {
     "asking/askers.py": ("Asker", "__init__(self,form) tell(self,value) let(self) back(self) now(self) taken(self) lets(self) __eq__(self,other) __len__(self)"),
+    "book/sittings.py": (
+        "Sitting",
+        "__init__(self,form) tell(self,moment,hand,key,value) strike(self,moment,hand,key) let(self,moment,hand,check) join(self,book) change(self,form,names=None) back(self) form(self)"
+        " book(self) now(self) answers(self) __eq__(self,other) __len__(self)",
+    ),
+    "desk/desk.py": ("Desk", "__init__(self) say(self,row)"),
 }
 
 

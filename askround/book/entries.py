@@ -22,7 +22,12 @@ def is_entry(thing):
     if not isinstance(thing, tuple) or len(thing) != 3:
         return False
     moment, hand, deed = thing
-    return is_number(moment) and is_name(hand) and is_deed(deed)
+    return is_stamp(moment, hand) and is_deed(deed)
+
+
+def is_stamp(moment, hand):
+    """Whether these are a moment and a hand."""
+    return is_number(moment) and is_name(hand)
 
 
 def is_deed(thing):
@@ -74,14 +79,18 @@ def answers_by(form, book):
     """A dict from the keys of a form to the answers that stand by a book."""
     check_form(form)
     check_book(book)
-    kinds = kinds_of(form)
+    return {key: entry[2][2] for key, entry in standing_in(book, kinds_of(form)).items()}
+
+
+def standing_in(book, kinds):
+    """A dict from keys, those of a dict of kinds in its order, to the entries that tell what stands by a book."""
     stands = {}
     for entry in by_stamps(book):
         deed = entry[2]
         if not counts(deed, kinds):
             continue
         if deed[0] == "tell":
-            stands[deed[1]] = deed[2]
+            stands[deed[1]] = entry
         elif deed[1] in stands:
             del stands[deed[1]]
     return {key: stands[key] for key in kinds if key in stands}

@@ -16,10 +16,10 @@ def _row_of(entry):
     moment, hand, deed = entry
     first, person = deed[1]
     row = f"{moment} {hand} {deed[0]} {first} {person}"
-    return f"{row} {_told_text(deed[2])}" if deed[0] == "tell" else row
+    return f"{row} {told_text(deed[2])}" if deed[0] == "tell" else row
 
 
-def _told_text(value):
+def told_text(value):
     """The text of a value that is told, whatever its kind."""
     if isinstance(value, tuple):
         return "".join([f"+{option}" for option in value]) or "+"

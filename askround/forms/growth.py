@@ -99,7 +99,7 @@ class Growth:
             return self._home() == "" and self._is_new(row[1]) and self._counts_folk(row[2])
         if row[0] == "leave" and not any([frame.head == ("part", row[1]) for frame in self.frames]):
             return False
-        return is_condition(row[-1]) and self._can_ask(row[-1])
+        return is_condition(row[-1]) and can_ask(row[-1], self._home(), self.kinds, self.homes, self.rounds)
 
     def _is_new(self, name):
         """Whether a thing is a name that no ask, part or round has."""
@@ -112,25 +112,6 @@ class Growth:
         kind = self.kinds[question]
         return kind[0] == "count" and kind[2] <= TOP_PERSON
 
-    def _can_ask(self, condition):
-        """Whether a condition names only what it may here."""
-        home = self._home()
-        for piece, over in pieces_of(condition):
-            # Where no round is open, each round so far is ended.
-            if over and (home or over not in self.rounds):
-                return False
-            if not self._can_ask_piece(piece, over or home):
-                return False
-        return True
-
-    def _can_ask_piece(self, piece, home):
-        """Whether a piece names an ask of the round home or of none, of the kind it speaks of."""
-        word, name, wanted = piece
-        if name not in self.kinds or self.homes[name] not in ("", home):
-            return False
-        kind = self.kinds[name]
-        return kind[0] == KINDS_OF_PIECES[word] and (kind[0] == "count" or wanted in kind[1])
-
     def _note(self, row):
         """Keep what later rows may name."""
         if row[0] in ("ask", "part", "each"):
@@ -140,3 +121,26 @@ class Growth:
             self.homes[row[1]] = self._home()
         if row[0] == "each":
             self.rounds[row[1]] = True
+
+
+def can_ask(condition, home, kinds, homes, rounds):
+    """Whether a condition in the round home names only what it may.
+
+    Ahead of it stand the asks of which kinds and homes are dicts, and these rounds, keys of a dict.
+    """
+    for piece, over in pieces_of(condition):
+        # Where no round is open, each round so far is ended.
+        if over and (home or over not in rounds):
+            return False
+        if not _can_ask_piece(piece, over or home, kinds, homes):
+            return False
+    return True
+
+
+def _can_ask_piece(piece, home, kinds, homes):
+    """Whether a piece names an ask of the round home or of none, of the kind it speaks of."""
+    word, name, wanted = piece
+    if name not in kinds or homes[name] not in ("", home):
+        return False
+    kind = kinds[name]
+    return kind[0] == KINDS_OF_PIECES[word] and (kind[0] == "count" or wanted in kind[1])

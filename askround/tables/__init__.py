@@ -1,0 +1,1 @@
+"""Records made into tables, weights by margins, hidden counts."""
